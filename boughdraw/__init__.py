@@ -1,0 +1,1 @@
+"""Boughdraw: trees drawn on paper."""

@@ -1,0 +1,95 @@
+"""How things change hands [2]: for each function, nothing handed in is altered, and what was told is the asker's."""
+
+import copy
+import unittest
+
+from boughdraw.boughs import bough_of, likeness, mirrored
+from boughdraw.errors import DrawError
+from boughdraw.room import nearest, room_of
+from boughdraw.trees import children_of, levels_of, made_tree, reaches
+from tests.helper import deep_form, grown, leaf, wide_form
+
+TREE = grown(("root", 1, [("abc", 2, [leaf("d"), leaf("ef", 9)]), ("g", 1, [leaf("hijk"), leaf("l")]), leaf("m")]))
+OUTLINES = [[(0, 0), (-700, 800)], [(-256, 256)], [(0, 0), (-90, 90), (-3000, 4000)], [(0, 0)]]
+
+QUESTIONS = [
+    (made_tree, [TREE]), (made_tree, [grown(wide_form())]), (made_tree, [[(-1, "a", 1)]]),
+    (children_of, [TREE, 0]), (children_of, [TREE, 2]), (children_of, [grown(wide_form()), 0]),
+    (levels_of, [TREE]), (levels_of, [grown(deep_form())]), (levels_of, [[(-1, "a", 1)]]),
+    (reaches, [TREE]), (reaches, [grown(deep_form())]),
+    (bough_of, [TREE, 0]), (bough_of, [TREE, 4]), (bough_of, [TREE, 7]), (bough_of, [[(-1, "a", 1)], 0]),
+    (mirrored, [TREE]), (mirrored, [grown(deep_form())]), (mirrored, [[(-1, "a", 1)]]),
+    (likeness, [TREE, 1, 4]), (likeness, [TREE, 0, 0]),
+    (nearest, [OUTLINES[0], OUTLINES[2], 3]),
+    (room_of, [OUTLINES, 1]), (room_of, [OUTLINES[:1], 1]), (room_of, [OUTLINES[:2], 20]),
+]
+
+REFUSED = [
+    (made_tree, [[(-1, "a", 1), (0, "B", 1)]]), (made_tree, [[]]), (made_tree, [[(-1, "a", 1), (5, "b", 1)]]),
+    (children_of, [TREE, -1]), (bough_of, [TREE, 99]), (likeness, [TREE, 0, 99]), (likeness, [TREE, -1, 0]),
+]
+
+
+def spoil(told):
+    """Alter every list that a told thing holds, the inner ones first."""
+    if isinstance(told, (list, tuple)):
+        for part in told:
+            spoil(part)
+    if isinstance(told, list):
+        told.reverse()
+        told.append("spoiled")
+        told[0] = ("spoiled",)
+
+
+class TestHands(unittest.TestCase):
+    def test_what_is_handed_in_stays_as_it_was(self):
+        for function, arguments in QUESTIONS:
+            with self.subTest(function.__name__):
+                handed = copy.deepcopy(arguments)
+                function(*handed)
+                self.assertEqual(handed, arguments)
+
+    def test_what_is_refused_stays_as_it_was(self):
+        for function, arguments in REFUSED:
+            with self.subTest(function.__name__):
+                handed = copy.deepcopy(arguments)
+                with self.assertRaises(DrawError):
+                    function(*handed)
+                self.assertEqual(handed, arguments)
+
+    def test_what_was_told_may_be_altered(self):
+        for function, arguments in QUESTIONS:
+            with self.subTest(function.__name__):
+                handed = copy.deepcopy(arguments)
+                told = function(*handed)
+                kept = copy.deepcopy(told)
+                spoil(told)
+                self.assertEqual(handed, arguments)
+                self.assertEqual(function(*handed), kept)
+
+    def test_what_was_told_stays_where_the_handed_is_altered(self):
+        for function, arguments in QUESTIONS:
+            with self.subTest(function.__name__):
+                handed = copy.deepcopy(arguments)
+                told = function(*handed)
+                kept = copy.deepcopy(told)
+                spoil(handed)
+                self.assertEqual(told, kept)
+
+    def test_no_two_lists_told_are_one(self):
+        for function, arguments in QUESTIONS:
+            with self.subTest(function.__name__):
+                told = function(*copy.deepcopy(arguments))
+                parts = [told] + [part for part in told if isinstance(part, list)]
+                lists = [part for part in parts if isinstance(part, list)]
+                self.assertEqual(len({id(part) for part in lists}), len(lists))
+
+    def test_an_equal_question_has_an_equal_answer(self):
+        first = [function(*copy.deepcopy(arguments)) for function, arguments in QUESTIONS]
+        for function, arguments in QUESTIONS[::-1]:
+            spoil(function(*copy.deepcopy(arguments)))
+        self.assertEqual([function(*copy.deepcopy(arguments)) for function, arguments in QUESTIONS], first)
+
+
+if __name__ == "__main__":
+    unittest.main()
