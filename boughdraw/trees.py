@@ -46,11 +46,12 @@ def is_on_way_up(rows, start, wanted):
 
 
 def check_label(label):
-    if len(label) < 1 or len(label) > LONGEST_LABEL:
-        raise NoTree("a label has one to nine letters")
-    for sign in label:
-        if sign not in LETTERS:
-            raise NoTree("a label has small letters from a to z alone")
+    if not is_label(label):
+        raise NoTree("a label has one to nine small letters from a to z")
+
+
+def is_label(text):
+    return 1 <= len(text) <= LONGEST_LABEL and all([sign in LETTERS for sign in text])
 
 
 def check_tall(tall):

@@ -88,3 +88,33 @@ def deep_form():
         behind = [leaf("de"[number % 2:] + "f" * step, number + 1) for number in range(2 if step == 0 else 3)]
         form = ("go", step + 1, ahead + [form] + behind)
     return form
+
+
+def fine_form():
+    """A form of 24 nodes, up to level 8, each level of which halves the shreds once more, down to single ones."""
+    form = ("a", 1, [leaf("b"), leaf("cd")])
+    for step in range(7):
+        form = ("a", 1, [form, line(2)])
+    return form
+
+
+def strewn(seed, count):
+    """Rows of a tree of so many nodes, strewn by a plain row of numbers that begins with the seed."""
+    number = seed
+    rows = []
+    way = []
+    for node in range(count):
+        number = (number * 1103515245 + 12345) % 2 ** 31
+        way = way[:min(number // 65536 % (len(way) + 1) + 1, 8)]
+        label = "abcdefghi"[:number // 4096 % 9 + 1] if number // 256 % 2 == 0 else "a"
+        rows.append((way[-1] if way else -1, label, number // 1024 % 9 + 1))
+        way.append(node)
+    return rows
+
+
+def formed(rows):
+    """The form that the rows were grown from."""
+    forms = [(row[1], row[2], []) for row in rows]
+    for node in range(1, len(rows)):
+        forms[rows[node][0]][2].append(forms[node])
+    return forms[0]

@@ -5,11 +5,17 @@ import unittest
 
 from boughdraw.boughs import bough_of, likeness, mirrored
 from boughdraw.errors import DrawError
+from boughdraw.hung import hung_rows, read_hung
+from boughdraw.places import drawn, outline_of, tops
 from boughdraw.room import nearest, room_of
+from boughdraw.rules import broken, unlike, width_of
+from boughdraw.texts import read_tree, tree_text
 from boughdraw.trees import children_of, levels_of, made_tree, reaches
 from tests.helper import deep_form, grown, leaf, wide_form
 
+FAR = 123456789012345678901234567890
 TREE = grown(("root", 1, [("abc", 2, [leaf("d"), leaf("ef", 9)]), ("g", 1, [leaf("hijk"), leaf("l")]), leaf("m")]))
+PLACES = [300, 500, 400, -FAR, 9, 9, FAR, 0]
 OUTLINES = [[(0, 0), (-700, 800)], [(-256, 256)], [(0, 0), (-90, 90), (-3000, 4000)], [(0, 0)]]
 
 QUESTIONS = [
@@ -22,11 +28,22 @@ QUESTIONS = [
     (likeness, [TREE, 1, 4]), (likeness, [TREE, 0, 0]),
     (nearest, [OUTLINES[0], OUTLINES[2], 3]),
     (room_of, [OUTLINES, 1]), (room_of, [OUTLINES[:1], 1]), (room_of, [OUTLINES[:2], 20]),
+    (tree_text, [TREE]), (tree_text, [[(-1, "a", 1)]]), (read_tree, ["ab*3(c,de(f,g*2))"]), (read_tree, ["a"]),
+    (hung_rows, [TREE]), (hung_rows, [[(-1, "a", 9)]]),
+    (read_hung, [["a:", "+-b", "| '-c", "'-d"]]), (read_hung, [["a"]]),
+    (drawn, [TREE, 1]), (drawn, [grown(deep_form()), 20]), (drawn, [[(-1, "abc", 1)], 1]),
+    (outline_of, [TREE, 0, 1]), (outline_of, [TREE, 4, 20]), (outline_of, [TREE, 7, 1]),
+    (tops, [TREE]), (tops, [TREE, 20]), (tops, [[(-1, "abc", 1)]]),
+    (broken, [TREE, PLACES, 1]), (broken, [TREE, [0] * 8, 20, 3]), (broken, [[(-1, "abc", 1)], [5], 1]),
+    (unlike, [TREE, PLACES]), (unlike, [grown(wide_form()), [node * node for node in range(40)]]),
+    (width_of, [TREE, PLACES]), (width_of, [TREE, PLACES, 7]),
 ]
 
 REFUSED = [
     (made_tree, [[(-1, "a", 1), (0, "B", 1)]]), (made_tree, [[]]), (made_tree, [[(-1, "a", 1), (5, "b", 1)]]),
     (children_of, [TREE, -1]), (bough_of, [TREE, 99]), (likeness, [TREE, 0, 99]), (likeness, [TREE, -1, 0]),
+    (read_tree, ["a("]), (read_tree, [["a"]]), (read_tree, ["a(" + "b," * 50 + "b)"]), (outline_of, [TREE, 8, 1]),
+    (read_hung, [["a", "+-b"]]), (read_hung, [["a", "b"]]), (read_hung, [["a"] + ["+-b"] * 50 + ["'-b"]]),
 ]
 
 
@@ -80,7 +97,7 @@ class TestHands(unittest.TestCase):
         for function, arguments in QUESTIONS:
             with self.subTest(function.__name__):
                 told = function(*copy.deepcopy(arguments))
-                parts = [told] + [part for part in told if isinstance(part, list)]
+                parts = [told] + list(told if isinstance(told, (list, tuple)) else [])
                 lists = [part for part in parts if isinstance(part, list)]
                 self.assertEqual(len({id(part) for part in lists}), len(lists))
 

@@ -29,6 +29,9 @@ NAMES_LEFT_OUT = """register mro elements open input version_info with_traceback
     builtins compile copyright credits delattr dir eval exec exit gc getattr globals hasattr help id importlib
     license locals methodcaller os quit setattr super type vars sys""".split()
 
+WALKED = "zip enumerate reversed range items keys values".split()
+WALKERS = "list tuple dict sorted sum any all enumerate zip min max join".split()
+
 
 def parsed(path):
     return ast.parse(path.read_text(encoding="utf-8"))
@@ -56,6 +59,21 @@ def top_names(tree):
         elif isinstance(node, ast.Assign):
             found.append(node.targets[0].id)
     return found
+
+
+def local_names(tree):
+    """The names that the functions of a file bind, their parameters too."""
+    functions = [node for node in ast.walk(tree) if isinstance(node, (ast.FunctionDef, ast.Lambda))]
+    inner = [node for function in functions for node in ast.walk(function)]
+    stored = [node.id for node in inner if isinstance(node, ast.Name) and isinstance(node.ctx, ast.Store)]
+    return stored + [node.arg for node in inner if isinstance(node, ast.arg)]
+
+
+def called_name(node):
+    """The name or method that a call calls, None where the node is no such call."""
+    if isinstance(node, ast.Call):
+        return getattr(node.func, "id", getattr(node.func, "attr", None))
+    return None
 
 
 def import_rows(tree):
@@ -104,6 +122,7 @@ class TestLanguage(unittest.TestCase):
     def hold_form(self, node):
         if isinstance(node, ast.Assign):
             self.assertEqual(len(node.targets), 1, node.lineno)
+            self.assertNotIsInstance(node.targets[0], (ast.Tuple, ast.List), node.lineno)
         if isinstance(node, (ast.For, ast.While)):
             self.assertEqual(node.orelse, [], node.lineno)
         if isinstance(node, ast.Try):
@@ -157,6 +176,37 @@ class TestLanguage(unittest.TestCase):
         for node in ast.walk(tree):
             if isinstance(node, ast.Name) and hasattr(builtins, node.id):
                 self.assertIn(node.id, OWN_OF_PYTHON, node.lineno)
+
+    def test_locals_are_not_called_like_what_stands_at_the_top(self):
+        self.hold_each(self.hold_locals)
+
+    def hold_locals(self, path):
+        tree = parsed(path)
+        drawn = [alias.name for row in import_rows(tree) for alias in row.names]
+        self.assertEqual(set(local_names(tree)) & set(drawn + top_names(tree)), set())
+
+    def test_walked_at_once(self):
+        self.hold_each(self.hold_walks)
+
+    def hold_walks(self, path):
+        for node in ast.walk(parsed(path)):
+            if isinstance(node, (ast.For, ast.comprehension)):
+                walked = [node.iter]
+            elif called_name(node) in WALKERS:
+                walked = node.args
+            else:
+                walked = []
+            for child in ast.iter_child_nodes(node):
+                if called_name(child) in WALKED:
+                    self.assertIn(child, walked, child.lineno)
+
+    def test_texts(self):
+        self.hold_each(self.hold_texts)
+
+    def hold_texts(self, path):
+        for node in ast.walk(parsed(path)):
+            if isinstance(node, ast.Constant) and isinstance(node.value, str):
+                self.assertNotIn("%", node.value, node.lineno)
 
     def test_methods(self):
         self.hold_each(self.hold_methods)
