@@ -57,3 +57,18 @@ def form_of(bough):
     # Signs and tall say nothing of likeness, so they are left out here.
     elders = [row[0] for row in bough]
     return (elders, reaches(bough))
+
+
+def forks(tree):
+    return [node for node in range(len(tree)) if len(children_of(tree, node)) > 1]
+
+
+def like_groups(tree):
+    # Each group holds tuples (node, like, mirror): how the node's bough is to that of the group's first one.
+    groups = []
+    waiting = forks(tree)
+    while len(waiting) > 0:
+        held = [(node,) + likeness(tree, node, waiting[0]) for node in waiting]
+        groups.append([member for member in held if member[1] or member[2]])
+        waiting = [node for node, like, mirror in held if not like and not mirror]
+    return groups

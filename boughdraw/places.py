@@ -15,7 +15,11 @@ def drawn(tree, gap):
     places = [0]
     for node in range(1, len(tree)):
         places.append(places[tree[node][0]] + offsets[node])
-    least = min([place - SHREDS * reach for place, reach in zip(places, reaches(tree))])
+    return moved_to_side(tree, places, SHREDS)
+
+
+def moved_to_side(tree, places, unit):
+    least = min([place - unit * reach for place, reach in zip(places, reaches(tree))])
     return [place - least for place in places]
 
 

@@ -5,8 +5,8 @@ unlike(tree, places): the pairs of nodes that are drawn unlike though their boug
 width_of(tree, places, unit=256): the width of the drawing, in its unit.
 """
 
-from boughdraw.boughs import likeness
-from boughdraw.trees import children_of, levels_of, reaches
+from boughdraw.boughs import forks, likeness
+from boughdraw.trees import children_of, neighbours, reaches
 
 
 def broken(tree, places, gap, unit=256):
@@ -14,13 +14,14 @@ def broken(tree, places, gap, unit=256):
 
 
 def broken_gaps(tree, places, gap, unit):
+    asked = asked_gaps(tree, gap)
+    return [("gap", one, other) for one, other, cells in asked if places[other] - places[one] < unit * cells]
+
+
+def asked_gaps(tree, gap):
+    # For neighbours, one and other: how many cells the other stands behind the one at the least.
     reach = reaches(tree)
-    found = []
-    for level in levels_of(tree):
-        for one, other in zip(level, level[1:]):
-            if places[other] - places[one] < unit * (reach[one] + reach[other] + gap + 1):
-                found.append(("gap", one, other))
-    return found
+    return [(one, other, reach[one] + reach[other] + gap + 1) for one, other in neighbours(tree)]
 
 
 def broken_middles(tree, places):
@@ -33,7 +34,7 @@ def broken_middles(tree, places):
 
 
 def unlike(tree, places):
-    elders = [node for node in range(len(tree)) if len(children_of(tree, node)) > 1]
+    elders = forks(tree)
     found = []
     for number, one in enumerate(elders):
         for other in elders[number:]:

@@ -86,5 +86,12 @@ def levels_of(tree):
     return numbers
 
 
+def neighbours(tree):
+    pairs = []
+    for level in levels_of(tree):
+        pairs.extend([(one, other) for one, other in zip(level, level[1:])])
+    return pairs
+
+
 def reaches(tree):
     return [len(row[1]) // 2 for row in tree]

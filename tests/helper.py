@@ -1,7 +1,10 @@
 """Trees for the tests, grown from nested forms, apart from the program's own ways.
 
-A form is a tuple (label, tall, children), children being a list of forms.
+A form is a tuple (label, tall, children), children being a list of forms. Below them: what meets on a sheet.
 """
+
+from fractions import Fraction
+from itertools import combinations
 
 
 def leaf(label="a", tall=1):
@@ -118,3 +121,79 @@ def formed(rows):
     for node in range(1, len(rows)):
         forms[rows[node][0]][2].append(forms[node])
     return forms[0]
+
+
+def boxes_meet(one, other):
+    """Whether two boxes have a point together, their sides counted in."""
+    return one[0] <= other[2] and other[0] <= one[2] and one[1] <= other[3] and other[1] <= one[3]
+
+
+def box_round(points):
+    across = [point[0] for point in points]
+    down = [point[1] for point in points]
+    return (min(across), min(down), max(across), max(down))
+
+
+def part_within(box, start, end):
+    """From where to where, as parts of the way from the start to the end, one is in the box; None where nowhere."""
+    if not boxes_meet(box, box_round([start, end])):
+        return None
+    first, last = Fraction(0), Fraction(1)
+    for axis in (0, 1):
+        way = end[axis] - start[axis]
+        if way != 0:
+            near, far = sorted([Fraction(box[axis] - start[axis], way), Fraction(box[axis + 2] - start[axis], way)])
+            first, last = max(first, near), min(last, far)
+    return (first, last) if first <= last else None
+
+
+def side_of(start, end, point):
+    """Above, below or just 0, as the point lies at the one or other hand of the way from the start to the end."""
+    return (end[0] - start[0]) * (point[1] - start[1]) - (end[1] - start[1]) * (point[0] - start[0])
+
+
+def ways_meet(one, other):
+    """Whether two straight ways, tuples of two points, have a point together, their ends counted in."""
+    if not boxes_meet(box_round(one), box_round(other)):
+        return False
+    return (side_of(*one, other[0]) * side_of(*one, other[1]) <= 0
+            and side_of(*other, one[0]) * side_of(*other, one[1]) <= 0)
+
+
+def ways_of(points):
+    """The straight ways of a line, without such as have no length."""
+    return [way for way in zip(points, points[1:]) if way[0] != way[1]]
+
+
+def line_clashes(tree, boxes, node, points):
+    """The boxes that a node's line meets, but where it joins its elder's and its own."""
+    found = []
+    for number, box in enumerate(boxes):
+        met = [part_within(box, *way) for way in ways_of(points)]
+        if number == tree[node][0]:
+            free = met[0] == (0, 0) and not any(met[1:])
+        elif number == node:
+            free = met[-1] == (1, 1) and not any(met[:-1])
+        else:
+            free = not any(met)
+        if not free:
+            found.append(("line and box", node, number))
+    return found
+
+
+def lines_clash(tree, lines, one, other):
+    """Whether two nodes' lines meet; such as have one elder may, from it to where they part."""
+    first, second = lines[one - 1], lines[other - 1]
+    if tree[one][0] == tree[other][0]:
+        return first[:2] != second[:2] or side_of(*first[1:], second[2]) == 0
+    return any(ways_meet(way, further) for way in ways_of(first) for further in ways_of(second))
+
+
+def clashes(tree, boxes, lines):
+    """All that meets on a sheet, or on a turned one, and may not."""
+    pairs = combinations(range(len(tree)), 2)
+    found = [("boxes", one, other) for one, other in pairs if boxes_meet(boxes[one], boxes[other])]
+    for node in range(1, len(tree)):
+        found.extend(line_clashes(tree, boxes, node, lines[node - 1]))
+    pairs = combinations(range(1, len(tree)), 2)
+    return found + [("lines", one, other) for one, other in pairs if lines_clash(tree, lines, one, other)]

@@ -4,18 +4,24 @@ import copy
 import unittest
 
 from boughdraw.boughs import bough_of, likeness, mirrored
-from boughdraw.errors import DrawError
+from boughdraw.errors import DrawError, TooMany
 from boughdraw.hung import hung_rows, read_hung
+from boughdraw.least import narrowest
 from boughdraw.places import drawn, outline_of, tops
+from boughdraw.pulls import is_paper, leans, worth
 from boughdraw.room import nearest, room_of
 from boughdraw.rules import broken, unlike, width_of
+from boughdraw.sheets import boxes, lines
 from boughdraw.texts import read_tree, tree_text
 from boughdraw.trees import children_of, levels_of, made_tree, reaches
+from boughdraw.turns import Lying, Standing, Turned, both_turns, turn_back, turned_point
 from tests.helper import deep_form, grown, leaf, wide_form
 
 FAR = 123456789012345678901234567890
 TREE = grown(("root", 1, [("abc", 2, [leaf("d"), leaf("ef", 9)]), ("g", 1, [leaf("hijk"), leaf("l")]), leaf("m")]))
 PLACES = [300, 500, 400, -FAR, 9, 9, FAR, 0]
+PULLS = ([1, 0, FAR], [FAR, 2, 3], [0, 0, 0, 4, 5, 6, FAR, 8])
+PAPER = ([0, 0, 1], [0, 0, 1], [0, 0, 0, 1, 0, 1, 1, 0])
 OUTLINES = [[(0, 0), (-700, 800)], [(-256, 256)], [(0, 0), (-90, 90), (-3000, 4000)], [(0, 0)]]
 
 QUESTIONS = [
@@ -37,6 +43,15 @@ QUESTIONS = [
     (broken, [TREE, PLACES, 1]), (broken, [TREE, [0] * 8, 20, 3]), (broken, [[(-1, "abc", 1)], [5], 1]),
     (unlike, [TREE, PLACES]), (unlike, [grown(wide_form()), [node * node for node in range(40)]]),
     (width_of, [TREE, PLACES]), (width_of, [TREE, PLACES, 7]),
+    (leans, [TREE, PULLS]), (leans, [TREE, PAPER]), (leans, [[(-1, "a", 1)], ([1], [1], [0])]),
+    (is_paper, [TREE, PULLS]), (is_paper, [TREE, PAPER]), (is_paper, [TREE, PAPER, True]),
+    (is_paper, [TREE, ([], [-1], [1])]), (worth, [TREE, 1, PULLS]), (worth, [TREE, 20, PAPER]),
+    (narrowest, [TREE, 1]), (narrowest, [TREE, 20, True]), (narrowest, [[(-1, "abc", 1)], 1]),
+    (boxes, [TREE, 1]), (boxes, [grown(deep_form()), 20, 20]), (boxes, [[(-1, "abc", 1)], 1]),
+    (lines, [TREE, 1]), (lines, [grown(deep_form()), 20, 20]), (lines, [[(-1, "abc", 1)], 1]),
+    (turned_point, [5, (3, FAR)]), (both_turns, [3, 6]), (turn_back, [3]),
+    (Standing().spot, [(3, FAR)]), (Standing().box, [(1, 2, 3, FAR)]), (Lying().spot, [(3, FAR)]),
+    (Lying().box, [(1, 2, 3, FAR)]), (Turned(5).spot, [(3, FAR)]), (Turned(5).box, [(1, 2, 3, FAR)]),
 ]
 
 REFUSED = [
@@ -44,6 +59,7 @@ REFUSED = [
     (children_of, [TREE, -1]), (bough_of, [TREE, 99]), (likeness, [TREE, 0, 99]), (likeness, [TREE, -1, 0]),
     (read_tree, ["a("]), (read_tree, [["a"]]), (read_tree, ["a(" + "b," * 50 + "b)"]), (outline_of, [TREE, 8, 1]),
     (read_hung, [["a", "+-b"]]), (read_hung, [["a", "b"]]), (read_hung, [["a"] + ["+-b"] * 50 + ["'-b"]]),
+    (narrowest, [grown(wide_form()), 1]), (narrowest, [grown(deep_form()), 20, True]),
 ]
 
 
@@ -56,6 +72,14 @@ def spoil(told):
         told.reverse()
         told.append("spoiled")
         told[0] = ("spoiled",)
+
+
+def lists_within(told):
+    """All lists that a told thing holds, itself too where it is one."""
+    found = [told] if isinstance(told, list) else []
+    for part in told if isinstance(told, (list, tuple)) else ():
+        found.extend(lists_within(part))
+    return found
 
 
 class TestHands(unittest.TestCase):
@@ -97,8 +121,7 @@ class TestHands(unittest.TestCase):
         for function, arguments in QUESTIONS:
             with self.subTest(function.__name__):
                 told = function(*copy.deepcopy(arguments))
-                parts = [told] + list(told if isinstance(told, (list, tuple)) else [])
-                lists = [part for part in parts if isinstance(part, list)]
+                lists = lists_within(told)
                 self.assertEqual(len({id(part) for part in lists}), len(lists))
 
     def test_an_equal_question_has_an_equal_answer(self):
@@ -106,6 +129,26 @@ class TestHands(unittest.TestCase):
         for function, arguments in QUESTIONS[::-1]:
             spoil(function(*copy.deepcopy(arguments)))
         self.assertEqual([function(*copy.deepcopy(arguments)) for function, arguments in QUESTIONS], first)
+
+    def test_what_one_function_told_another_takes(self):
+        for strict in (False, True):
+            places, unit, pulls = narrowest(TREE, 1, strict)
+            huge = 10 ** 3990
+            places = [huge * place for place in places]
+            pulls = tuple([huge * number for number in part] for part in pulls)
+            self.assertEqual(broken(TREE, places, 1, huge * unit), [])
+            self.assertIs(is_paper(TREE, pulls, strict), True)
+            self.assertTrue(any(any(row) for row in leans(TREE, (pulls[0], [0, 0, 0], pulls[2]))))
+            width = width_of(TREE, places, huge * unit)
+            self.assertEqual(width * sum(pulls[0]), worth(TREE, 1, pulls) * huge * unit)
+            self.assertEqual(Turned(1).spot((width, -width)), (width, width))
+
+    def test_long_lists(self):
+        long = [1] * 2000
+        self.assertIs(is_paper(TREE, (long, long, long)), False)
+        self.assertIs(is_paper(TREE, (long, long, long), True), False)
+        with self.assertRaises(TooMany):
+            narrowest([(-1, "a", 1)] + [(0, "b", 1)] * 1999, 1)
 
 
 if __name__ == "__main__":

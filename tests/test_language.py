@@ -29,6 +29,8 @@ NAMES_LEFT_OUT = """register mro elements open input version_info with_traceback
     builtins compile copyright credits delattr dir eval exec exit gc getattr globals hasattr help id importlib
     license locals methodcaller os quit setattr super type vars sys""".split()
 
+OWN_METHODS = "__init__ __eq__ __repr__ __str__ __len__".split()
+
 WALKED = "zip enumerate reversed range items keys values".split()
 WALKERS = "list tuple dict sorted sum any all enumerate zip min max join".split()
 
@@ -172,7 +174,7 @@ class TestLanguage(unittest.TestCase):
         for name in bound_names(tree):
             self.assertRegex(name, r"^([A-Za-z][A-Za-z0-9_]*|__(init|eq|repr|str|len)__)$")
             self.assertNotIn(name, NAMES_LEFT_OUT)
-            self.assertFalse(hasattr(builtins, name), name)
+            self.assertFalse(hasattr(builtins, name) and name not in OWN_METHODS, name)
         for node in ast.walk(tree):
             if isinstance(node, ast.Name) and hasattr(builtins, node.id):
                 self.assertIn(node.id, OWN_OF_PYTHON, node.lineno)
@@ -199,6 +201,42 @@ class TestLanguage(unittest.TestCase):
             for child in ast.iter_child_nodes(node):
                 if called_name(child) in WALKED:
                     self.assertIn(child, walked, child.lineno)
+
+    def test_classes(self):
+        self.hold_each(self.hold_classes)
+
+    def hold_classes(self, path):
+        for node in ast.walk(parsed(path)):
+            if isinstance(node, ast.ClassDef):
+                self.assertIn(node.name, top_names(parsed(path)))
+                self.assertLessEqual(len(node.bases), 1, node.name)
+                self.assertEqual(node.keywords, [], node.name)
+                parts = [part for part in node.body if not isinstance(part, ast.Pass)]
+                self.assertEqual({type(part) for part in parts} - {ast.FunctionDef}, set(), node.name)
+                names = [part.name for part in parts]
+                self.assertEqual(len(set(names)), len(names), node.name)
+            if isinstance(node, ast.FunctionDef) and node.name == "__init__":
+                returns = [part for part in ast.walk(node) if isinstance(part, ast.Return)]
+                self.assertEqual([part for part in returns if part.value is not None], [])
+
+    def test_no_name_is_a_method_and_a_value(self):
+        nodes = [node for path in FILES for node in ast.walk(parsed(path))]
+        classes = [node for node in nodes if isinstance(node, ast.ClassDef)]
+        methods = {part.name for node in classes for part in node.body if isinstance(part, ast.FunctionDef)}
+        stores = [node for node in nodes if isinstance(node, ast.Attribute) and isinstance(node.ctx, ast.Store)]
+        self.assertEqual(methods & {node.attr for node in stores}, set())
+        # A value of an object is called like no method or value of Python's own, but for a few.
+        own = {name for kind in (str, int, list, dict, set, bytes) for name in dir(kind)}
+        free = set("count index title find get join lower upper split strip copy add".split())
+        self.assertEqual({node.attr for node in stores} & own - free, set())
+
+    def test_powers(self):
+        self.hold_each(self.hold_powers)
+
+    def hold_powers(self, path):
+        for node in ast.walk(parsed(path)):
+            if isinstance(node, ast.BinOp) and isinstance(node.op, ast.Pow):
+                self.assertIsInstance(node.right, ast.Constant, node.lineno)
 
     def test_texts(self):
         self.hold_each(self.hold_texts)
