@@ -2,7 +2,7 @@ import unittest
 
 from boughdraw.places import drawn
 from boughdraw.sheets import boxes, lines
-from tests.helper import (all_forms, clashes, deep_form, fine_form, formed, grown, leaf, line, listed, strewn,
+from tests.helper import (all_forms, clashes, deep_form, fine_form, formed, grown, line, listed, strewn,
                           wide_form)
 
 FORMS = (all_forms(5, ["a", "bc", "defgh"]) + [line(9), wide_form(), deep_form(), fine_form()]

@@ -4,7 +4,7 @@ import unittest
 from boughdraw.errors import NoText, NoTree
 from boughdraw.texts import read_tree, tree_text
 from boughdraw.trees import made_tree
-from tests.helper import all_forms, deep_form, fine_form, grown, leaf, line, strewn, wide_form
+from tests.helper import all_forms, deep_form, fine_form, grown, line, strewn, wide_form
 
 FORMS = all_forms(6, ["a", "bc", "defghijkl"]) + [line(9), wide_form(), deep_form(), fine_form()]
 ORDINARY = "ab*3(c,de(f,g*2))"
