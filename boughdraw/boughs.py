@@ -28,11 +28,7 @@ def bough_end(tree, node):
 
 def mirrored(tree):
     numbers = mirrored_order(tree)
-    places = {-1: -1}
-    for place, number in enumerate(numbers):
-        places[number] = place
-    rows = [tree[number] for number in numbers]
-    return ([(places[row[0]], row[1], row[2]) for row in rows], numbers)
+    return (renumbered(tree, numbers), numbers)
 
 
 def mirrored_order(tree):
@@ -44,6 +40,15 @@ def mirrored_order(tree):
         order.append(node)
         waiting.extend(children_of(tree, node))
     return order
+
+
+def renumbered(rows, numbers):
+    # The tree of those rows that the numbers name, in this order; their elders must be among them.
+    places = {-1: -1}
+    for place, number in enumerate(numbers):
+        places[number] = place
+    named = [rows[number] for number in numbers]
+    return [(places[row[0]], row[1], row[2]) for row in named]
 
 
 def likeness(tree, one, other):

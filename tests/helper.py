@@ -1,10 +1,13 @@
 """Trees for the tests, grown from nested forms, apart from the program's own ways.
 
-A form is a tuple (label, tall, children), children being a list of forms. Below them: what meets on a sheet.
+A form is a tuple (label, tall, children), children being a list of forms. Below them: what meets on a sheet; and twigs,
+nodes that know their own children, for what an easel does.
 """
 
 from fractions import Fraction
 from itertools import combinations
+
+from boughdraw.errors import NoDeed, NoNode, NoPlace, NoTree
 
 
 def leaf(label="a", tall=1):
@@ -101,13 +104,19 @@ def fine_form():
     return form
 
 
-def strewn(seed, count):
-    """Rows of a tree of so many nodes, strewn by a plain row of numbers that begins with the seed."""
+def rolled(seed):
+    """A plain row of numbers without end that looks strewn, the same for each seed."""
     number = seed
+    while True:
+        number = (number * 1103515245 + 12345) % 2 ** 31
+        yield number
+
+
+def strewn(seed, count):
+    """Rows of a tree of so many nodes, strewn by the row of numbers that begins with the seed."""
     rows = []
     way = []
-    for node in range(count):
-        number = (number * 1103515245 + 12345) % 2 ** 31
+    for node, number in zip(range(count), rolled(seed)):
         way = way[:min(number // 65536 % (len(way) + 1) + 1, 8)]
         label = "abcdefghi"[:number // 4096 % 9 + 1] if number // 256 % 2 == 0 else "a"
         rows.append((way[-1] if way else -1, label, number // 1024 % 9 + 1))
@@ -197,3 +206,109 @@ def clashes(tree, boxes, lines):
         found.extend(line_clashes(tree, boxes, node, lines[node - 1]))
     pairs = combinations(range(1, len(tree)), 2)
     return found + [("lines", one, other) for one, other in pairs if lines_clash(tree, lines, one, other)]
+
+
+class Twig:
+    """A node that is itself, whatever its number: deeds are done on it, and it is found again behind them."""
+
+    def __init__(self, label, tall, children):
+        self.label = label
+        self.tall = tall
+        self.children = children
+        self.folded = False
+
+    def bough(self):
+        """The twig and all below it, in a tree's order."""
+        return [self] + [twig for child in self.children for twig in child.bough()]
+
+    def height(self):
+        """How many nodes stand one below the other at the most."""
+        return 1 + max([child.height() for child in self.children], default=0)
+
+    def depth_of(self, twig):
+        """The level of a twig below this one, as if this were the root; None where it is none of its bough."""
+        if twig is self:
+            return 0
+        depths = [child.depth_of(twig) for child in self.children]
+        return next((depth + 1 for depth in depths if depth is not None), None)
+
+    def in_sight(self):
+        """As bough, but without what hangs below a folded twig."""
+        return [self] + [twig for child in self.children if not self.folded for twig in child.in_sight()]
+
+
+def twigs_of(form):
+    return Twig(form[0], form[1], [twigs_of(child) for child in form[2]])
+
+
+def form_of_twig(twig, seen=False):
+    """The form of a twig's bough, or of what is seen of it."""
+    below = [] if seen and twig.folded else twig.children
+    return (twig.label, twig.tall, [form_of_twig(child, seen) for child in below])
+
+
+class Judge:
+    """What an easel is to tell, found by twigs: of the deed to come whether it is refused, and what is behind it."""
+
+    def __init__(self, form):
+        self.root = twigs_of(form)
+        self.anew = list(range(len(self.root.bough())))
+
+    def whole(self):
+        return grown(form_of_twig(self.root))
+
+    def folded(self):
+        return [number for number, twig in enumerate(self.root.bough()) if twig.folded]
+
+    def seen(self):
+        twigs = self.root.bough()
+        return (grown(form_of_twig(self.root, True)), [twigs.index(twig) for twig in self.root.in_sight()])
+
+    def elder_of(self, twig):
+        return [elder for elder in self.root.bough() if twig in elder.children][0]
+
+    def named(self, deed, arguments):
+        """The twigs that a deed names by their numbers; None for a number that none has."""
+        twigs = self.root.bough()
+        numbers = arguments[:2] if deed == "move" else arguments[:1]
+        return [twigs[number] if 0 <= number < len(twigs) else None for number in numbers]
+
+    def refusal(self, deed, arguments):
+        """The class that a deed is refused with, None for one that is not."""
+        named = self.named(deed, arguments)
+        if None in named:
+            return NoNode
+        twig = named[0]
+        if deed == "fold":
+            return NoDeed if twig.folded or not twig.children else None
+        if deed == "unfold":
+            return None if twig.folded else NoDeed
+        if deed == "cut":
+            return NoDeed if twig is self.root else None
+        if deed == "move" and (twig is self.root or named[1] in twig.bough()):
+            return NoDeed
+        new = twigs_of(formed(arguments[2])) if deed == "put" else twig
+        children = [child for child in named[-1].children if child is not twig]
+        if arguments[1 if deed == "put" else 2] not in range(len(children) + 1):
+            return NoPlace
+        count = len(self.root.bough()) + (len(new.bough()) if deed == "put" else 0)
+        return NoTree if count > 40 or self.root.depth_of(named[-1]) + new.height() > 8 else None
+
+    def do(self, deed, arguments):
+        """Do a deed that is not refused."""
+        before = self.root.in_sight()
+        named = self.named(deed, arguments)
+        touched = named[:1]
+        if deed in ("fold", "unfold"):
+            named[0].folded = deed == "fold"
+        if deed in ("cut", "move"):
+            touched = [self.elder_of(named[0])] + named[1:]
+            touched[0].children.remove(named[0])
+        if deed in ("put", "move"):
+            new = twigs_of(formed(arguments[2])) if deed == "put" else named[0]
+            named[-1].children.insert(arguments[1 if deed == "put" else 2], new)
+        for twig in self.root.bough():
+            twig.folded = twig.folded and twig.children != []
+        after = self.root.in_sight()
+        stirred = [twig for twig in after if twig in touched or twig not in before]
+        self.anew = [number for number, twig in enumerate(after) if any(part in stirred for part in twig.in_sight())]

@@ -4,11 +4,14 @@ import copy
 import unittest
 
 from boughdraw.boughs import bough_of, likeness, mirrored
+from boughdraw.easel import Easel
 from boughdraw.errors import DrawError, TooMany
 from boughdraw.hung import hung_rows, read_hung
 from boughdraw.least import narrowest
+from boughdraw.pictures import picture
 from boughdraw.places import drawn, outline_of, tops
 from boughdraw.pulls import is_paper, leans, worth
+from boughdraw.readers import read_picture
 from boughdraw.room import nearest, room_of
 from boughdraw.rules import broken, unlike, width_of
 from boughdraw.sheets import boxes, lines
@@ -22,6 +25,11 @@ TREE = grown(("root", 1, [("abc", 2, [leaf("d"), leaf("ef", 9)]), ("g", 1, [leaf
 PLACES = [300, 500, 400, -FAR, 9, 9, FAR, 0]
 PULLS = ([1, 0, FAR], [FAR, 2, 3], [0, 0, 0, 4, 5, 6, FAR, 8])
 PAPER = ([0, 0, 1], [0, 0, 1], [0, 0, 0, 1, 0, 1, 1, 0])
+PICTURE = [" r", "+^+", "a b", ": :", "| :", "#", "c"]
+FRESH = Easel(TREE, 1)
+USED = Easel(TREE, 20)
+USED.fold(1)
+USED.move(5, 3, 0)
 OUTLINES = [[(0, 0), (-700, 800)], [(-256, 256)], [(0, 0), (-90, 90), (-3000, 4000)], [(0, 0)]]
 
 QUESTIONS = [
@@ -52,6 +60,10 @@ QUESTIONS = [
     (turned_point, [5, (3, FAR)]), (both_turns, [3, 6]), (turn_back, [3]),
     (Standing().spot, [(3, FAR)]), (Standing().box, [(1, 2, 3, FAR)]), (Lying().spot, [(3, FAR)]),
     (Lying().box, [(1, 2, 3, FAR)]), (Turned(5).spot, [(3, FAR)]), (Turned(5).box, [(1, 2, 3, FAR)]),
+    (picture, [TREE, 1]), (picture, [grown(deep_form()), 20]), (picture, [[(-1, "abc", 9)], 1]),
+    (read_picture, [PICTURE, 1]), (read_picture, [["ab", " :"], 20]), (read_picture, [["a"], 1]),
+    (FRESH.whole, []), (FRESH.folded, []), (FRESH.seen, []), (FRESH.drawing, []), (FRESH.redrawn, []),
+    (USED.whole, []), (USED.folded, []), (USED.seen, []), (USED.drawing, []), (USED.redrawn, []),
 ]
 
 REFUSED = [
@@ -60,7 +72,15 @@ REFUSED = [
     (read_tree, ["a("]), (read_tree, [["a"]]), (read_tree, ["a(" + "b," * 50 + "b)"]), (outline_of, [TREE, 8, 1]),
     (read_hung, [["a", "+-b"]]), (read_hung, [["a", "b"]]), (read_hung, [["a"] + ["+-b"] * 50 + ["'-b"]]),
     (narrowest, [grown(wide_form()), 1]), (narrowest, [grown(deep_form()), 20, True]),
+    (read_picture, [PICTURE, 2]), (read_picture, [PICTURE[1:], 1]), (read_picture, [[], 1]),
+    (read_picture, [PICTURE[:3] + [""], 1]), (read_picture, [["a"] * 50, 1]),
+    (FRESH.put, [8, 0, [(-1, "x", 1)]]), (USED.put, [0, 9, [(-1, "x", 1)]]), (USED.put, [0, 0, grown(wide_form())]),
+    (USED.fold, [1]), (USED.unfold, [2]), (USED.cut, [0]), (USED.move, [1, 2, 0]), (FRESH.move, [7, 0, FAR]),
 ]
+
+
+def told_by(easel):
+    return [easel.whole(), easel.folded(), easel.seen(), easel.drawing(), easel.redrawn()]
 
 
 def spoil(told):
@@ -142,6 +162,43 @@ class TestHands(unittest.TestCase):
             width = width_of(TREE, places, huge * unit)
             self.assertEqual(width * sum(pulls[0]), worth(TREE, 1, pulls) * huge * unit)
             self.assertEqual(Turned(1).spot((width, -width)), (width, width))
+
+    def test_what_an_easel_is_handed_stays_as_it_was(self):
+        handed = copy.deepcopy([TREE, grown(wide_form())[:4]])
+        easel = Easel(handed[0], 1)
+        easel.put(7, 0, handed[1])
+        easel.put(0, 1, handed[0])
+        easel.fold(1)
+        easel.cut(2)
+        easel.move(1, 3, 0)
+        self.assertEqual(handed, [TREE, grown(wide_form())[:4]])
+        kept = copy.deepcopy(told_by(easel))
+        spoil(handed)
+        self.assertEqual(told_by(easel), kept)
+        spoil(told_by(easel))
+        self.assertEqual(told_by(easel), kept)
+
+    def test_easels_stay_as_they_were_behind_all_questions(self):
+        kept = copy.deepcopy([told_by(FRESH), told_by(USED)])
+        for function, arguments in QUESTIONS:
+            spoil(function(*copy.deepcopy(arguments)))
+        for function, arguments in REFUSED:
+            with self.assertRaises(DrawError):
+                function(*copy.deepcopy(arguments))
+        self.assertEqual([told_by(FRESH), told_by(USED)], kept)
+
+    def test_trees_that_were_told_are_taken(self):
+        trees = [made_tree(TREE), bough_of(TREE, 1), mirrored(TREE)[0], read_tree(tree_text(TREE)), USED.whole(),
+                 read_hung(hung_rows(TREE)), read_picture(picture(TREE, 3), 3), USED.seen()[0]]
+        for one in trees:
+            for other in trees:
+                easel = Easel(one, 1)
+                easel.put(0, 0, other)
+                seen = easel.seen()[0]
+                self.assertEqual(len(seen), len(one) + len(other))
+                self.assertEqual(read_picture(picture(seen, 1), 1), read_hung(hung_rows(seen)))
+                self.assertEqual(broken(seen, easel.drawing(), 1), [])
+                self.assertEqual(bough_of(seen, 1), other)
 
     def test_long_lists(self):
         long = [1] * 2000

@@ -4,6 +4,7 @@ import importlib
 import inspect
 import unittest
 
+from boughdraw.easel import Easel
 from boughdraw.hung import hung_rows
 from boughdraw.least import narrowest
 from boughdraw.places import drawn, outline_of, tops
@@ -27,7 +28,12 @@ INTERFACE = {
     "sheets": ["boxes(tree, gap, between=1)", "lines(tree, gap, between=1)"],
     "turns": ["turned_point(turn, point)", "both_turns(one, other)", "turn_back(turn)", "Standing()", "Lying()",
               "Turned(turn)"],
+    "pictures": ["picture(tree, gap)"],
+    "readers": ["read_picture(rows, gap)"],
+    "easel": ["Easel(tree, gap)"],
 }
+EASEL = ["whole()", "folded()", "seen()", "drawing()", "redrawn()", "fold(node)", "unfold(node)", "cut(node)",
+         "put(elder, place, tree)", "move(node, elder, place)"]
 
 
 class TestInterface(unittest.TestCase):
@@ -43,6 +49,10 @@ class TestInterface(unittest.TestCase):
         for lay in (Standing(), Lying(), Turned(3)):
             self.assertEqual(str(inspect.signature(lay.spot)), "(point)")
             self.assertEqual(str(inspect.signature(lay.box)), "(box)")
+        easel = Easel([(-1, "a", 1)], 1)
+        for told in EASEL:
+            name = told.partition("(")[0]
+            self.assertEqual(name + str(inspect.signature(getattr(easel, name))), told)
 
     def test_trees_somewhat_beyond_the_bounds_are_not_refused(self):
         wide = ("r", 10, [leaf("a")] * 41)
